@@ -1,0 +1,1 @@
+"""Evenstrand: one even strand drawn from many short wisps."""
