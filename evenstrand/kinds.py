@@ -10,3 +10,8 @@ def is_whole(thing, least):
 def is_tuple(thing, fewest, most):
     """Whether a thing is a tuple of fewest to most parts."""
     return isinstance(thing, tuple) and fewest <= len(thing) <= most
+
+
+def do_rise(numbers):
+    """Whether numbers rise, no two of them alike."""
+    return all([ahead < number for ahead, number in zip(numbers, numbers[1:])])

@@ -62,6 +62,14 @@ def model_thick(strand, p):
     return sum(model_of(laid, p) for laid in strand)
 
 
+def model_lasts(strand, low, now=0):
+    """The first place from now on that is too thin, by going place by place."""
+    p = now
+    while model_thick(strand, p) >= low:
+        p += 1
+    return p
+
+
 def some_wisp(chance):
     thicks = sorted(chance.sample(range(1, 7), chance.randint(1, 3)), reverse=True)
     return (chance.randint(0, 1), tuple((thickness, chance.randint(1, 4)) for thickness in thicks))
@@ -79,6 +87,15 @@ def some_strands(many=150):
     """The same small strands each time: those of one seed."""
     chance = random.Random(20)
     return [some_strand(chance) for _ in range(many)]
+
+
+def some_row(chance, most=5):
+    return tuple(some_wisp(chance) for _ in range(chance.randint(0, most)))
+
+
+def full_row():
+    """A row of 60 wisps."""
+    return tuple((STEEP, NARROW, EVEN)[k % 3] for k in range(60))
 
 
 def full_strand():

@@ -2,7 +2,7 @@
 
 import unittest
 
-from evenstrand.kinds import is_tuple, is_whole
+from evenstrand.kinds import do_rise, is_tuple, is_whole
 from tests.samples import BIG
 
 
@@ -25,6 +25,12 @@ class Kinds(unittest.TestCase):
         self.assertIs(is_tuple((1, 2), 0, 1), False)
         for thing in ([1, 2], "ab", {1: 2, 3: 4}, None, 2):
             self.assertIs(is_tuple(thing, 0, 9), False)
+
+    def test_numbers_that_rise(self):
+        for numbers in ([], [7], [0, 1], [0, 5, BIG]):
+            self.assertIs(do_rise(numbers), True)
+        for numbers in ([0, 0], [1, 0], [0, 2, 2], [0, 2, 1], [5, 0, 6], [BIG, BIG]):
+            self.assertIs(do_rise(numbers), False)
 
 
 if __name__ == "__main__":
