@@ -72,15 +72,22 @@ def manys_behind(manys, laid):
     return tuple([None if many is None else many - laid.count(kind) for kind, many in enumerate(manys)])
 
 
-def steps_of(basket, frame, state):
-    """The states that may come of one by drawing a place, each with the fewest laid that lead to it."""
+def choices_of(basket, frame, state):
+    """All that may be done to draw a place from a state: (what is kept, the kinds laid, the state that comes of it)."""
     low, high, hand = frame
     ages, manys = state
-    fewest = {}
+    choices = []
     for kept in kept_from(ages, hand):
         for laid in laid_from(manys, hand - len(kept)):
             running = kept + tuple([(kind, 0) for kind in laid])
             if low <= thickness_of(basket, running) <= high:
-                coming = (aged(basket, running), manys_behind(manys, laid))
-                fewest[coming] = min(len(laid), fewest.get(coming, hand))
+                choices.append((kept, laid, (aged(basket, running), manys_behind(manys, laid))))
+    return choices
+
+
+def steps_of(basket, frame, state):
+    """The states that may come of one by drawing a place, each with the fewest laid that lead to it."""
+    fewest = {}
+    for kept, laid, coming in choices_of(basket, frame, state):
+        fewest[coming] = min(len(laid), fewest.get(coming, len(laid)))
     return tuple(sorted(fewest.items()))

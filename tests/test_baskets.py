@@ -17,12 +17,12 @@ NINE = (0, ((2, 8), (1, 1)))
 BASKET = ((LONG, 2), (SHORT, None))
 
 
-def model_steps(basket, frame, state):
-    """The steps from a state, each choice gone through: which go on, and how many of each kind are laid."""
+def model_choices(basket, frame, state):
+    """Each choice gone through, which go on and how many of each kind are laid: (what runs, laid, what comes of it)."""
     low, high, hand = frame
     ages, left = state
     thicks = [thin_out(wisp) for wisp, many in basket]
-    found = {}
+    found = []
     for stays in itertools.product((False, True), repeat=len(ages)):
         for laid in itertools.product(range(hand + 1), repeat=len(basket)):
             runs = [pair for pair, stay in zip(ages, stays) if stay]
@@ -31,8 +31,16 @@ def model_steps(basket, frame, state):
             if enough and len(runs) <= hand and low <= sum(thicks[kind][age] for kind, age in runs) <= high:
                 older = sorted((kind, age + 1) for kind, age in runs if age + 1 < len(thicks[kind]))
                 rest = tuple(many if many is None else many - taken for taken, many in zip(laid, left))
-                found.setdefault((tuple(older), rest), []).append(sum(laid))
-    return tuple(sorted((coming, min(laids)) for coming, laids in found.items()))
+                found.append((sorted(runs), sum(laid), (tuple(older), rest)))
+    return found
+
+
+def model_steps(basket, frame, state):
+    """The steps from a state, by all choices."""
+    found = {}
+    for _, laid, coming in model_choices(basket, frame, state):
+        found[coming] = min(laid, found.get(coming, laid))
+    return tuple(sorted(found.items()))
 
 
 def some_basket(chance, longest=8, kinds=4):
