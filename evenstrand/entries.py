@@ -97,12 +97,18 @@ def cut_runs(breaks):
     return runs
 
 
-def told_by(names, strand, runs, moment):
-    """What is told of a moment by names, their strand and the runs that are cut off."""
+def telling_of(entries):
+    """What all telling of moments rests on: (the names laid, their strand, the runs that are cut off)."""
+    return (names_by(entries), strand_by(entries), cut_runs(breaks_by(entries)))
+
+
+def told_by(telling, moment):
+    """What is told of a moment: (the names that run, how thick by sorts, whether the place is cut off later)."""
+    names, strand, runs = telling
     those = tuple(sorted([names[number] for number in running(strand, moment)]))
     return (those, by_sorts(strand, moment), any([start <= moment < end for start, end in runs]))
 
 
 def told_at(entries, moment):
-    """(the names that run, how thick by sorts, whether the place is cut off later) at a moment."""
-    return told_by(names_by(entries), strand_by(entries), cut_runs(breaks_by(entries)), moment)
+    """What entries tell of a moment: (names, sorts, cut)."""
+    return told_by(telling_of(entries), moment)

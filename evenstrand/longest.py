@@ -9,8 +9,9 @@ def states_from(basket, frame, most):
     waiting = [first_state(basket)]
     while waiting:
         state = waiting.pop()
-        found[state] = [coming for coming, laid in steps_of(basket, frame, state)]
-        for coming in found[state]:
+        onward = [coming for coming, laid in steps_of(basket, frame, state)]
+        found[state] = onward
+        for coming in onward:
             if coming not in found:
                 found[coming] = []
                 waiting.append(coming)
@@ -51,7 +52,8 @@ def way_round(found, heights, first):
     # Each state without a height has one behind it, so the way goes on until it meets itself.
     while way[-1] not in starts:
         starts[way[-1]] = len(way) - 1
-        way.append([coming for coming in found[way[-1]] if coming not in heights][0])
+        onward = [coming for coming in found[way[-1]] if coming not in heights]
+        way.append(onward[0])
     return ("endless", tuple(way), starts[way[-1]])
 
 

@@ -3,6 +3,8 @@
 import copy
 import random
 
+from evenstrand.errors import StrandError
+
 BIG = 10 ** 40 - 1
 
 NARROW = (0, ((5, 3), (2, 4)))
@@ -126,3 +128,15 @@ def check_nothing_fits(test, function, things):
         with test.subTest(thing=shown):
             test.assertIs(function(thing), False)
             test.assertEqual(repr(thing), shown)
+
+
+def check_refused(test, function, thing, kind):
+    """That a thing is refused with its own class alone, asked twice, and stays as it was; tells the refusal."""
+    shown = repr(thing)
+    with test.subTest(thing=shown[:200]):
+        for _ in range(2):
+            with test.assertRaises(StrandError) as caught:
+                function(thing)
+            test.assertIs(caught.exception.__class__, kind)
+            test.assertEqual(repr(thing), shown)
+        return caught.exception

@@ -5,12 +5,14 @@ import random
 import unittest
 
 from evenstrand.breaking import are_breaks, left
+from evenstrand.broken import drawn_with, lasting_with, with_breaks
 from evenstrand.entries import (
     breaks_by, counting, is_entry, is_page, names_by, strand_by, told_at)
 from evenstrand.strands import by_sorts, is_strand, running
 from tests.samples import (
-    BIG, EVEN, NARROW, STEEP, anything, asked_twice, check_nothing_fits, is_truth, nested, not_wisps, some_wisp,
-    thin_out)
+    BIG, EVEN, NARROW, STEEP, anything, asked_twice, check_nothing_fits, is_truth, nested, not_wisps, some_row,
+    some_wisp, thin_out)
+from tests.test_breaking import some_breaks
 
 LAY = ("lay", "a", NARROW, 2)
 LET = ("let", "a", 5)
@@ -303,6 +305,19 @@ class ToldAt(unittest.TestCase):
                 self.assertEqual(told[1], by_sorts(strand, moment))
                 uncut += not told[2]
             self.assertEqual(uncut, left(60, breaks_by(entries)))
+
+    def test_a_row_drawn_with_breaks_as_entries_tell_it(self):
+        chance = random.Random(102)
+        for _ in range(100):
+            row, low, breaks = some_row(chance), chance.randint(1, 6), some_breaks(chance)
+            moments = drawn_with(row, low, breaks)
+            entries = tuple(("snap",) + pair for pair in breaks) + tuple(
+                ("lay", "abcdef"[number], wisp, moment) for number, (wisp, moment) in enumerate(zip(row, moments)))
+            self.assertEqual(breaks_by(entries), breaks)
+            self.assertEqual(strand_by(entries), with_breaks(row, moments, breaks))
+            end = lasting_with(row, low, breaks)
+            self.assertEqual([sum(told_at(entries, moment)[1]) < low for moment in range(end + 1)],
+            [False] * end + [True])
 
     def test_forty_figures(self):
         entries = (("lay", "a", (0, ((BIG, BIG),)), BIG - 5), ("lay", "b", (0, ((BIG, 1), (1, BIG))), 0),

@@ -23,6 +23,8 @@ append clear copy count endswith extend find get index insert isalnum isalpha is
 join keys ljust lower lstrip partition pop remove replace reverse rfind rjust rpartition rsplit rstrip setdefault split
 splitlines startswith strip update upper values zfill bit_length add discard sort __init__
 """.split())
+# The methods that the document's interface lists, each to stand in its class itself.
+OWN_METHODS = {"Book": ["put", "pages", "entries", "told", "length", "end", "stretches"], "Desk": ["say"]}
 
 
 def bound_names(tree):
@@ -35,8 +37,9 @@ def bound_names(tree):
 
 
 def defined_names(tree):
+    """The names of a file's functions and classes; those of methods mean nothing outside of their class."""
     kinds = (ast.FunctionDef, ast.ClassDef)
-    return [node.name for node in ast.walk(tree) if isinstance(node, kinds)]
+    return [node.name for node in tree.body if isinstance(node, kinds)]
 
 
 def imports_of(tree):
@@ -114,7 +117,17 @@ class Language(unittest.TestCase):
                 if isinstance(node, ast.Name) and node.id in vars(builtins):
                     self.assertIn(node.id, ALLOWED_BUILTINS)
                 if isinstance(node, ast.Call) and isinstance(node.func, ast.Attribute):
-                    self.assertIn(node.func.attr, KNOWN_METHODS)
+                    self.assertIn(node.func.attr, KNOWN_METHODS.union(*OWN_METHODS.values()))
+
+    def test_methods_and_attributes(self):
+        classes = [node for _, _, tree in self.each_file() for node in tree.body if isinstance(node, ast.ClassDef)]
+        methods = {node.name: defined_names(node) for node in classes}
+        attributes = {part.attr for node in classes for part in ast.walk(node)
+                      if isinstance(part, ast.Attribute) and isinstance(part.ctx, ast.Store)}
+        self.assertTrue(attributes)
+        for name, listed in OWN_METHODS.items():
+            self.assertEqual(sorted(methods[name]), sorted(listed + ["__init__"]))
+            self.assertFalse(attributes.intersection(listed))
 
     def test_is_stands_beside_none_and_truths(self):
         for _, _, tree in self.each_file():
